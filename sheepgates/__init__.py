@@ -1,0 +1,1 @@
+"""Shedding: parting a mixed flock into its farms by runs through a gate."""

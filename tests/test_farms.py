@@ -1,0 +1,166 @@
+"""farms (0) and sheep (9): the calls that change something."""
+
+import unittest
+
+from sheepgates.sheds import Flock, answer_call
+from tests.asking import (
+    HIGHEST, LOWEST, ask, ask_last, canbe, cost, depths, farms, least, ordered, orderedtree, sheep, tree, within,
+)
+
+EVERY_QUESTION = [
+    least(2), least(3), tree(2), tree(3), ordered(2), ordered(3), orderedtree(2), orderedtree(3),
+    cost(2, [0, 0]), cost(2, [2, 0, 0, 0, 1]), cost(3, [3, 0, 0, 0, 1, 0, 2]),
+    depths([0, 0]), depths([2, 0, 0, 0, 1]), depths([3, 0, 0, 0, 1, 0, 2]),
+    canbe(2, [0]), canbe(2, [1, 1]), canbe(3, [1, 1, 1]), within(2, 1), within(3, 8),
+    sheep(0), sheep(1), sheep(2),
+]
+
+WRONG_FARMS = [
+    [], [0] * 9, [1] * 64, [-1], [1001], [5, 1001], [-1, 5], [3, 1, -1], [LOWEST], [HIGHEST],
+    [1, 2, HIGHEST], [LOWEST, 2, 3], [0, 0, 0, 0, 0, 0, 0, 1001],
+]
+
+
+class BeforeTheFirstCall(unittest.TestCase):
+    def test_one_farm_without_sheep(self):
+        self.assertEqual(
+            ask(*EVERY_QUESTION),
+            [
+                [0], [0], [0, 0], [0, 0], [0], [0], [0, 0], [0, 0],
+                [1, 0, 0], [0], [0],
+                [1, 0], [-7], [-7],
+                [1], [-1], [-1], [1, 0], [1, 0],
+                [1], [-1], [-1],
+            ],
+        )
+
+    def test_it_is_as_if_told(self):
+        self.assertEqual(ask(*EVERY_QUESTION), ask(farms(0), *EVERY_QUESTION)[1:])
+
+    def test_the_row_is_empty(self):
+        self.assertEqual(Flock().row, [])
+
+
+class Farms(unittest.TestCase):
+    def test_answers_how_many_sheep(self):
+        self.assertEqual(ask(farms(0), farms(1000), farms(7), farms(3, 0, 9)), [[0], [1000], [7], [12]])
+
+    def test_eight_farms(self):
+        self.assertEqual(ask(farms(*[0] * 8), farms(*[1000] * 8), farms(*range(8))), [[0], [8000], [28]])
+
+    def test_later_calls_answer_for_the_new_farms(self):
+        self.assertEqual(
+            ask(
+                farms(4, 4), least(2), cost(2, [2, 0, 0, 0, 1]), canbe(2, [1, 1]), sheep(1),
+                farms(1, 2, 3), least(2), cost(2, [2, 0, 0, 0, 1]), canbe(2, [1, 1]), sheep(2),
+                farms(9), least(2), tree(2), ordered(3), orderedtree(3), within(2, 0), depths([0, 0]), sheep(1),
+            ),
+            [
+                [8], [8], [1, 8, 1], [1], [1],
+                [6], [9], [0], [-1], [1],
+                [9], [0], [0, 0], [0], [0, 0], [1, 0], [1, 0], [-1],
+            ],
+        )
+
+    def test_wrong_farms(self):
+        for given in WRONG_FARMS:
+            with self.subTest(given=given):
+                self.assertEqual(ask(farms(*given)), [[-1]])
+
+    def test_a_refusal_changes_nothing(self):
+        for told in [[0], [6, 2], [3, 5, 1]]:
+            unrefused = ask(farms(*told), *EVERY_QUESTION)
+            for given in WRONG_FARMS:
+                with self.subTest(told=told, given=given):
+                    answered = ask(farms(*told), farms(*given), *EVERY_QUESTION)
+                    self.assertEqual(answered[1], [-1])
+                    self.assertEqual(answered[2:], unrefused[1:])
+
+    def test_each_answer_begins_anew(self):
+        ask(farms(3, 4), sheep(1))
+        self.assertEqual(ask(least(2), sheep(1)), [[0], [-1]])
+
+
+class Sheep(unittest.TestCase):
+    def test_answers_how_many(self):
+        self.assertEqual(
+            ask(sheep(), sheep(0), sheep(*[0] * 39), sheep(*[0] * 40)),
+            [[0], [1], [39], [40]],
+        )
+
+    def test_every_farm_may_stand_in_it(self):
+        self.assertEqual(ask_last(farms(*[0] * 8), sheep(7, 6, 5, 4, 3, 2, 1, 0, 7)), [9])
+
+    def test_more_of_a_farm_than_it_has(self):
+        self.assertEqual(ask_last(farms(1, 0), sheep(0, 0, 1, 1)), [4])
+
+    def test_wrong_rows(self):
+        for row in [[0] * 41, [0] * 64, [3], [-1], [0, 1, 3], [-1, 0], [LOWEST], [HIGHEST], [0, HIGHEST], [LOWEST, 0]]:
+            with self.subTest(row=row):
+                self.assertEqual(ask_last(farms(1, 2, 3), sheep(*row)), [-1])
+
+    def test_the_eighth_farm_is_the_last(self):
+        self.assertEqual(ask(farms(*[1] * 8), sheep(7), sheep(8))[1:], [[1], [-1]])
+
+    def test_it_changes_no_other_answer(self):
+        self.assertEqual(
+            ask(farms(2, 1, 1), sheep(0, 1, 2), *EVERY_QUESTION)[2:],
+            ask(farms(2, 1, 1), *EVERY_QUESTION)[1:],
+        )
+
+
+class TheRowThatIsKept(unittest.TestCase):
+    def setUp(self):
+        self.flock = Flock()
+        self.call(0, [], [5, 1, 2])
+        self.call(9, [], [2, 0, 1])
+
+    def call(self, number, told, given):
+        return answer_call(self.flock, number, told, given)
+
+    def test_it_is_the_row_told_last(self):
+        self.assertEqual(self.flock.row, [2, 0, 1])
+        self.call(9, [], [1, 1])
+        self.assertEqual(self.flock.row, [1, 1])
+        self.call(9, [], [])
+        self.assertEqual(self.flock.row, [])
+
+    def test_farms_empties_it(self):
+        self.assertEqual(self.call(0, [], [5, 1, 2]), [8])
+        self.assertEqual(self.flock.row, [])
+
+    def test_refused_farms_leave_it(self):
+        for given in WRONG_FARMS:
+            self.assertEqual(self.call(0, [], given), [-1])
+            self.assertEqual((self.flock.farms, self.flock.row), ([5, 1, 2], [2, 0, 1]))
+
+    def test_a_refused_row_leaves_it(self):
+        for given in [[3], [0, -1], [0] * 41]:
+            self.assertEqual(self.call(9, [], given), [-1])
+            self.assertEqual((self.flock.farms, self.flock.row), ([5, 1, 2], [2, 0, 1]))
+
+    def test_the_questions_leave_all(self):
+        plan = [3, 0, 0, 0, 1, 0, 2]
+        for number, told, given in [
+            (1, [2], []), (2, [3], []), (3, [2], []), (4, [3], []), (5, [3], plan), (6, [], plan),
+            (7, [3], [1, 1, 1]), (8, [3, 1], []),
+            (1, [4], []), (2, [1], []), (3, [0], []), (4, [-2], []), (5, [4], plan), (5, [2], plan), (6, [], [0, 0]),
+            (7, [3], [1, 1]), (8, [3, 9], []),
+        ]:
+            with self.subTest(number=number, told=told, given=given):
+                self.call(number, told, given)
+                self.assertEqual((self.flock.farms, self.flock.row), ([5, 1, 2], [2, 0, 1]))
+
+    def test_what_is_handed_in_is_copied(self):
+        given = [4, 4]
+        self.call(0, [], given)
+        given.append(9)
+        self.assertEqual(self.flock.farms, [4, 4])
+        row = [1, 0]
+        self.call(9, [], row)
+        row.append(9)
+        self.assertEqual(self.flock.row, [1, 0])
+
+
+if __name__ == "__main__":
+    unittest.main()
