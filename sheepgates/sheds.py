@@ -70,12 +70,12 @@ def pens_by_sheep(farms):
     return sorted(pens_in_order(farms), key=lambda pen: pen.sheep)
 
 
-def joined(ways):
-    sheep = sum([way.sheep for way in ways])
-    cost = sheep + sum([way.cost for way in ways])
-    numbers = [len(ways)]
-    for way in ways:
-        numbers.extend(way.numbers)
+def joined(plans):
+    sheep = sum([plan.sheep for plan in plans])
+    cost = sheep + sum([plan.cost for plan in plans])
+    numbers = [len(plans)]
+    for plan in plans:
+        numbers.extend(plan.numbers)
     return Plan(sheep, cost, numbers)
 
 

@@ -37,8 +37,8 @@ class BeforeTheFirstCall(unittest.TestCase):
     def test_it_is_as_if_told(self):
         self.assertEqual(ask(*EVERY_QUESTION), ask(farms(0), *EVERY_QUESTION)[1:])
 
-    def test_the_row_is_empty(self):
-        self.assertEqual(Flock().row, [])
+    def test_what_is_kept(self):
+        self.assertEqual((Flock().farms, Flock().row), ([0], []))
 
 
 class Farms(unittest.TestCase):
