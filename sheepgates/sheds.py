@@ -1,11 +1,13 @@
 """Shedding: what it costs to part a mixed flock into its farms by runs through a gate."""
 
+FARMS_AT_FIRST = (0,)
 MOST_FARMS = 8
 MOST_SHEEP_OF_A_FARM = 1000
 FEWEST_WAYS = 2
 MOST_WAYS = 3
 MOST_RUNS = 8
 LONGEST_ROW = 40
+MOST_OF_A_FARM_IN_A_PEN = 1000
 
 OUT_OF_RANGE = -1
 NOT_A_PLAN = -7
@@ -21,8 +23,12 @@ class NotAPlan(Exception):
 
 class Flock:
     def __init__(self):
-        self.farms = [0]
+        self.begin_with(FARMS_AT_FIRST)
+
+    def begin_with(self, farms):
+        self.farms = list(farms)
         self.row = []
+        self.pens = [[0] * len(farms) for farm in farms]
 
 
 class Plan:
@@ -57,6 +63,10 @@ def check_list(numbers, fewest, most, highest):
 def checked_ways(told):
     check_number(told[0], FEWEST_WAYS, MOST_WAYS)
     return told[0]
+
+
+def with_count(numbers):
+    return [len(numbers)] + numbers
 
 
 # Making plans
@@ -206,12 +216,43 @@ def pens_for_farms(numbers, ways, farms):
     return pens
 
 
+# What a plan costs where each farm has so many sheep: a sheep walks through each run above its pen.
+def cost_for(pens, sheep):
+    return sum([runs * sheep[farm] for farm, runs in pens])
+
+
+def places_of(farm, row):
+    return [place for place, other in enumerate(row) if other == farm]
+
+
+# Strangers in pens
+
+def pens_with_strangers(pens):
+    return [farm for farm, pen in enumerate(pens) if sum(pen) > pen[farm]]
+
+
+def strangers_of(farm, pens):
+    return sum([pen[farm] for pen in pens]) - pens[farm][farm]
+
+
+def strangers_by_farm(pens):
+    return [strangers_of(farm, pens) for farm in range(len(pens))]
+
+
+def cost_to_mend(pens):
+    strangers = [many for many in strangers_by_farm(pens) if many > 0]
+    # There is no least plan for no farms at all.
+    if not strangers:
+        return 0
+    emptied = sum([sum(pens[farm]) for farm in pens_with_strangers(pens)])
+    return emptied + least_plan(strangers, 2).cost
+
+
 # The calls: each is given the flock, the whole numbers told, and the list (empty if the call has none).
 
 def answer_farms(flock, told, given):
     check_list(given, 1, MOST_FARMS, MOST_SHEEP_OF_A_FARM)
-    flock.farms = list(given)
-    flock.row = []
+    flock.begin_with(given)
     return [sum(given)]
 
 
@@ -237,15 +278,13 @@ def answer_cost(flock, told, given):
         pens = pens_for_farms(given, ways, flock.farms)
     except NotAPlan:
         return [0]
-    # A sheep walks through each run above its pen.
-    cost = sum([runs * flock.farms[farm] for farm, runs in pens])
     # A pen takes two numbers and a run one.
-    return [1, cost, len(given) - 2 * len(pens)]
+    return [1, cost_for(pens, flock.farms), len(given) - 2 * len(pens)]
 
 
 def answer_depths(flock, told, given):
     pens = pens_for_farms(given, MOST_WAYS, flock.farms)
-    return [len(pens)] + [runs for farm, runs in sorted(pens)]
+    return with_count([runs for farm, runs in sorted(pens)])
 
 
 def answer_canbe(flock, told, given):
@@ -258,9 +297,7 @@ def answer_within(flock, told, given):
     ways = checked_ways(told)
     check_number(told[1], 0, MOST_RUNS)
     plan = least_plan_within(flock.farms, ways, told[1])
-    if plan is None:
-        return [0]
-    return [1, plan.cost]
+    return [0] if plan is None else [1, plan.cost]
 
 
 def answer_sheep(flock, told, given):
@@ -269,13 +306,65 @@ def answer_sheep(flock, told, given):
     return [len(given)]
 
 
+def answer_shed(flock, told, given):
+    pens = pens_for_farms(given, MOST_WAYS, flock.farms)
+    answer = [len(pens)]
+    for farm, runs in pens:
+        answer.extend([farm] + with_count(places_of(farm, flock.row)))
+    return answer
+
+
+def answer_walked(flock, told, given):
+    pens = pens_for_farms(given, MOST_WAYS, flock.farms)
+    return [cost_for(pens, [flock.row.count(farm) for farm in range(len(flock.farms))])]
+
+
+def answer_pens(flock, told, given):
+    many = len(flock.farms)
+    check_list(given, many * many, many * many, MOST_OF_A_FARM_IN_A_PEN)
+    flock.pens = [given[farm * many:(farm + 1) * many] for farm in range(many)]
+    return [sum(given)]
+
+
+def answer_mixed(flock, told, given):
+    return with_count(pens_with_strangers(flock.pens)) + with_count(strangers_by_farm(flock.pens))
+
+
+def answer_mend(flock, told, given):
+    return [cost_to_mend(flock.pens)]
+
+
+def answer_told(flock, told, given):
+    return with_count(flock.farms)
+
+
+def answer_row(flock, told, given):
+    return with_count(flock.row)
+
+
+def answer_pen(flock, told, given):
+    check_number(told[0], 0, len(flock.farms) - 1)
+    return with_count(flock.pens[told[0]])
+
+
+def answer_counts(flock, told, given):
+    return [len(flock.farms), sum(flock.farms), len(flock.row)]
+
+
+def answer_clear(flock, told, given):
+    flock.begin_with(FARMS_AT_FIRST)
+    return [0]
+
+
 # By a call's number: who answers it, how many whole numbers it has, and how many lists behind them.
 ANSWERERS = (
     answer_farms, answer_least, answer_tree, answer_ordered, answer_orderedtree,
     answer_cost, answer_depths, answer_canbe, answer_within, answer_sheep,
+    answer_shed, answer_walked, answer_pens, answer_mixed, answer_mend,
+    answer_told, answer_row, answer_pen, answer_counts, answer_clear,
 )
-WHOLE_NUMBERS = (0, 1, 1, 1, 1, 1, 0, 1, 2, 0)
-LISTS = (1, 0, 0, 0, 0, 1, 1, 1, 0, 1)
+WHOLE_NUMBERS = (0, 1, 1, 1, 1, 1, 0, 1, 2, 0, 0, 0, 0, 0, 0, 0, 0, 1, 0, 0)
+LISTS = (1, 0, 0, 0, 0, 1, 1, 1, 0, 1, 1, 1, 1, 0, 0, 0, 0, 0, 0, 0)
 
 
 def answer_call(flock, number, told, given):

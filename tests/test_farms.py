@@ -1,10 +1,10 @@
-"""farms (0) and sheep (9): the calls that change something."""
+"""farms (0) and sheep (9): what they answer, and what the calls 1 to 8 answer after them."""
 
 import unittest
 
-from sheepgates.sheds import Flock, answer_call
 from tests.asking import (
-    HIGHEST, LOWEST, ask, ask_last, canbe, cost, depths, farms, least, ordered, orderedtree, sheep, tree, within,
+    HIGHEST, LOWEST, WRONG_FARMS, ask, ask_last, canbe, cost, depths, farms, least, ordered, orderedtree, sheep, tree,
+    within,
 )
 
 EVERY_QUESTION = [
@@ -13,11 +13,6 @@ EVERY_QUESTION = [
     depths([0, 0]), depths([2, 0, 0, 0, 1]), depths([3, 0, 0, 0, 1, 0, 2]),
     canbe(2, [0]), canbe(2, [1, 1]), canbe(3, [1, 1, 1]), within(2, 1), within(3, 8),
     sheep(0), sheep(1), sheep(2),
-]
-
-WRONG_FARMS = [
-    [], [0] * 9, [1] * 64, [-1], [1001], [5, 1001], [-1, 5], [3, 1, -1], [LOWEST], [HIGHEST],
-    [1, 2, HIGHEST], [LOWEST, 2, 3], [0, 0, 0, 0, 0, 0, 0, 1001],
 ]
 
 
@@ -36,9 +31,6 @@ class BeforeTheFirstCall(unittest.TestCase):
 
     def test_it_is_as_if_told(self):
         self.assertEqual(ask(*EVERY_QUESTION), ask(farms(0), *EVERY_QUESTION)[1:])
-
-    def test_what_is_kept(self):
-        self.assertEqual((Flock().farms, Flock().row), ([0], []))
 
 
 class Farms(unittest.TestCase):
@@ -107,59 +99,6 @@ class Sheep(unittest.TestCase):
             ask(farms(2, 1, 1), sheep(0, 1, 2), *EVERY_QUESTION)[2:],
             ask(farms(2, 1, 1), *EVERY_QUESTION)[1:],
         )
-
-
-class TheRowThatIsKept(unittest.TestCase):
-    def setUp(self):
-        self.flock = Flock()
-        self.call(0, [], [5, 1, 2])
-        self.call(9, [], [2, 0, 1])
-
-    def call(self, number, told, given):
-        return answer_call(self.flock, number, told, given)
-
-    def test_it_is_the_row_told_last(self):
-        self.assertEqual(self.flock.row, [2, 0, 1])
-        self.call(9, [], [1, 1])
-        self.assertEqual(self.flock.row, [1, 1])
-        self.call(9, [], [])
-        self.assertEqual(self.flock.row, [])
-
-    def test_farms_empties_it(self):
-        self.assertEqual(self.call(0, [], [5, 1, 2]), [8])
-        self.assertEqual(self.flock.row, [])
-
-    def test_refused_farms_leave_it(self):
-        for given in WRONG_FARMS:
-            self.assertEqual(self.call(0, [], given), [-1])
-            self.assertEqual((self.flock.farms, self.flock.row), ([5, 1, 2], [2, 0, 1]))
-
-    def test_a_refused_row_leaves_it(self):
-        for given in [[3], [0, -1], [0] * 41]:
-            self.assertEqual(self.call(9, [], given), [-1])
-            self.assertEqual((self.flock.farms, self.flock.row), ([5, 1, 2], [2, 0, 1]))
-
-    def test_the_questions_leave_all(self):
-        plan = [3, 0, 0, 0, 1, 0, 2]
-        for number, told, given in [
-            (1, [2], []), (2, [3], []), (3, [2], []), (4, [3], []), (5, [3], plan), (6, [], plan),
-            (7, [3], [1, 1, 1]), (8, [3, 1], []),
-            (1, [4], []), (2, [1], []), (3, [0], []), (4, [-2], []), (5, [4], plan), (5, [2], plan), (6, [], [0, 0]),
-            (7, [3], [1, 1]), (8, [3, 9], []),
-        ]:
-            with self.subTest(number=number, told=told, given=given):
-                self.call(number, told, given)
-                self.assertEqual((self.flock.farms, self.flock.row), ([5, 1, 2], [2, 0, 1]))
-
-    def test_what_is_handed_in_is_copied(self):
-        given = [4, 4]
-        self.call(0, [], given)
-        given.append(9)
-        self.assertEqual(self.flock.farms, [4, 4])
-        row = [1, 0]
-        self.call(9, [], row)
-        row.append(9)
-        self.assertEqual(self.flock.row, [1, 0])
 
 
 if __name__ == "__main__":

@@ -100,36 +100,16 @@ class AgainstEveryPlan(unittest.TestCase):
 
 
 class ByTheWords(unittest.TestCase):
-    """The row of plans as the document tells it, with plans as tuples."""
-
-    def place(self, row, new):
-        at = 0
-        for number, other in enumerate(row):
-            if other[0] <= new[0]:
-                at = number + 1
-        return row[:at] + [new] + row[at:]
-
-    def join(self, row, many):
-        first = row[:many]
-        return self.place(row[many:], (sum(each[0] for each in first), tuple(each[1] for each in first)))
-
-    def told(self, sheep, w):
-        row = []
-        for farm, many in enumerate(sheep):
-            row = self.place(row, (many, farm))
-        if w == 3 and len(row) % 2 == 0:
-            row = self.join(row, 2)
-        while len(row) > 1:
-            row = self.join(row, w)
-        return trying.as_numbers(row[0][1])
-
     def test_trees(self):
         rows = [list(sheep) for many in range(1, 6) for sheep in product([0, 1, 2], repeat=many)]
         rows += [sheep[:many] for sheep in EIGHTS for many in (6, 7, 8)]
         for sheep in rows:
             for w in (2, 3):
                 with self.subTest(sheep=sheep, w=w):
-                    self.assertEqual(ask_last(farms(*sheep), tree(w)), self.told(sheep, w))
+                    self.assertEqual(
+                        ask_last(farms(*sheep), tree(w)),
+                        trying.as_numbers(trying.least_told(sheep, w)),
+                    )
 
 
 class WrongWays(unittest.TestCase):

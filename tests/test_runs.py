@@ -42,6 +42,28 @@ class CanBe(unittest.TestCase):
                     with self.subTest(w=w, runs=runs):
                         self.assertEqual(ask_last(farms(*[1] * many), canbe(w, runs)), [1 if fits else 0])
 
+    def test_against_every_plan_for_more_farms(self):
+        for w in (2, 3):
+            for many in (5, 6, 7, 8):
+                for first in range(0, 9):
+                    for step in range(0, 4):
+                        runs = [(first + farm * step) % 9 for farm in range(many)]
+                        with self.subTest(w=w, runs=runs):
+                            self.assertEqual(
+                                ask_last(farms(*[1] * many), canbe(w, runs)),
+                                [1 if trying.fits(runs, w) else 0],
+                            )
+
+    def test_rows_of_eight_that_just_can_be(self):
+        for w in (2, 3):
+            for runs in product((1, 2, 3, 5), repeat=4):
+                row = list(runs) + [4, 4, 3, 3]
+                with self.subTest(w=w, row=row):
+                    self.assertEqual(
+                        ask_last(farms(*[1] * 8), canbe(w, row)),
+                        [1 if trying.fits(row, w) else 0],
+                    )
+
     def test_the_sheep_do_not_matter(self):
         self.assertEqual(ask_last(farms(0, 0, 0), canbe(2, [1, 1, 1])), [0])
         self.assertEqual(ask_last(farms(1000, 1000, 0), canbe(2, [2, 2, 1])), [1])
